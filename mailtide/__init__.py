@@ -1,0 +1,1 @@
+"""Mailtide: mailboxes kept in step."""

@@ -1,0 +1,152 @@
+"""The package keeps to those rules of its Python subset that a short look at its code can check."""
+
+import ast
+import builtins
+import io
+import re
+import tokenize
+import unittest
+import warnings
+from pathlib import Path
+
+ROOT = Path(__file__).resolve().parent.parent / "mailtide"
+
+LIBRARY = {
+    "heapq": {"heappush", "heappop", "heapify", "heapreplace", "heappushpop"},
+    "math": {"gcd", "lcm", "isqrt", "comb", "perm", "factorial"},
+    "itertools": {"product", "combinations", "permutations"},
+}
+
+BUILTINS = set(
+    "len range enumerate zip min max sum abs sorted reversed int str bool bytes list tuple dict set frozenset isinstance ord "
+    "repr any all divmod iter next map super property staticmethod classmethod True False None Exception ValueError "
+    "TypeError KeyError IndexError LookupError ZeroDivisionError ArithmeticError OverflowError RuntimeError "
+    "NotImplementedError AttributeError StopIteration NotImplemented".split()
+)
+
+METHODS = set(
+    "append clear copy count endswith extend find get index insert isalnum isalpha isdigit islower isspace isupper items "
+    "join keys ljust lower lstrip partition pop remove replace reverse rfind rjust rpartition rsplit rstrip setdefault "
+    "split splitlines startswith strip update upper values zfill bit_length title capitalize swapcase casefold center "
+    "expandtabs removeprefix removesuffix rindex isascii isdecimal isnumeric istitle isidentifier isprintable add discard "
+    "translate encode decode __init__".split()
+)
+
+# Doctest puts `_` there, too.
+BUILTIN_NAMES = set(dir(builtins)) - {"_"}
+
+BARRED_NAMES = set(
+    "register mro elements open input law version_info with_traceback add_note attrgetter breakpoint builtins compile "
+    "copyright credits delattr dir eval exec exit gc getattr globals hasattr help id importlib license locals methodcaller "
+    "os quit setattr type vars sys".split()
+)
+
+BARRED_WORDS = set(
+    "type typing typing_extensions enum Enum IntEnum StrEnum Flag IntFlag Generic Protocol ABC ABCMeta namedtuple NamedTuple "
+    "TypedDict TYPE_CHECKING abstractmethod dataclass overload contextmanager".split()
+)
+
+BARRED_NODES = (
+    ast.Global, ast.AsyncFunctionDef, ast.AsyncFor, ast.AsyncWith, ast.Await, ast.Div, ast.MatMult, ast.GeneratorExp, ast.Import,
+)
+
+# The interface of the document, as far as its modules are there.
+INTERFACE = {
+    "errors": "TideError BadSet BadFolder BadNumber BadSigns BadDeed BadNotice BadRow BadCopy BadKey BadText BadValue TooLarge",
+    "sets": "meant shortest count_shortest plain_set parting",
+    "folders": "Folder copied moved",
+}
+
+
+def files():
+    return sorted(path for path in ROOT.rglob("*") if path.is_file() and "__pycache__" not in path.parts)
+
+
+def trees():
+    return [(path.name, ast.parse(path.read_text())) for path in files()]
+
+
+def nodes(kind):
+    return [(name, node) for name, tree in trees() for node in ast.walk(tree) if isinstance(node, kind)]
+
+
+class Language(unittest.TestCase):
+
+    def test_files_and_sizes(self):
+        for path in files():
+            text = path.read_text()
+            self.assertRegex(path.name, r"^[a-z0-9_]+\.py$")
+            self.assertRegex(text, r"^[ -~\n]*$", path.name)
+            self.assertLessEqual(len(text.splitlines()), 399, path.name)
+            self.assertLessEqual(max(map(len, text.splitlines())), 120, path.name)
+        for name, node in nodes(ast.FunctionDef):
+            self.assertLessEqual(node.end_lineno - node.lineno + 1, 40, (name, node.name))
+
+    def test_no_warnings(self):
+        with warnings.catch_warnings():
+            warnings.simplefilter("error")
+            for path in files():
+                compile(path.read_text(), path.name, "exec")
+
+    def test_module_level(self):
+        allowed = (ast.ImportFrom, ast.FunctionDef, ast.ClassDef)
+        for name, tree in trees():
+            self.assertIsNotNone(ast.get_docstring(tree), name)
+            for node in tree.body[1:]:
+                if isinstance(node, ast.Assign):
+                    self.assertEqual([len(node.targets), isinstance(node.targets[0], ast.Name)], [1, True], name)
+                    ast.literal_eval(node.value)
+                else:
+                    self.assertIsInstance(node, allowed, name)
+
+    def test_imports(self):
+        for name, node in nodes(ast.ImportFrom):
+            for alias in node.names:
+                own = node.module.startswith("mailtide.") and node.level == 0 and alias.name != "*"
+                self.assertTrue(own or alias.name in LIBRARY.get(node.module, ()), (name, node.module))
+
+    def test_barred_nodes(self):
+        for name, node in nodes(BARRED_NODES):
+            self.fail((name, node))
+        for name, node in nodes(ast.Constant):
+            self.assertNotIsInstance(node.value, (float, complex), name)
+        for name, node in nodes(ast.BinOp):
+            if isinstance(node.op, ast.Pow):
+                self.assertIsInstance(node.right, ast.Constant, name)
+        for name, node in nodes((ast.FunctionDef, ast.ClassDef)):
+            self.assertEqual(node.decorator_list, [], (name, node.name))
+
+    def test_names(self):
+        for name, node in nodes((ast.Name, ast.arg, ast.FunctionDef, ast.ClassDef, ast.alias)):
+            word = getattr(node, "id", None) or getattr(node, "arg", None) or node.name
+            self.assertNotIn(word, BARRED_NAMES, name)
+            if word in BUILTIN_NAMES:
+                is_read = isinstance(node, ast.Name) and isinstance(node.ctx, ast.Load)
+                self.assertTrue(is_read and word in BUILTINS, (name, word))
+
+    def test_methods(self):
+        own = {node.name for _, node in nodes(ast.FunctionDef)}
+        for name, node in nodes(ast.Call):
+            if isinstance(node.func, ast.Attribute):
+                self.assertIn(node.func.attr, METHODS | own, name)
+
+    def test_words_outside_comments_and_docstrings(self):
+        for path in files():
+            rows = tokenize.generate_tokens(io.StringIO(path.read_text()).readline)
+            for token in rows:
+                is_docstring = token.string.startswith('"""')
+                if token.type != tokenize.COMMENT and not is_docstring:
+                    for word in re.findall(r"\w+", token.string):
+                        self.assertNotIn(word, BARRED_WORDS, path.name)
+                if token.type == tokenize.STRING:
+                    self.assertNotIn("%", token.string, path.name)
+
+    def test_interface_is_defined_in_its_files(self):
+        for module, names in INTERFACE.items():
+            tree = ast.parse((ROOT / f"{module}.py").read_text())
+            defined = {node.name for node in tree.body if isinstance(node, (ast.FunctionDef, ast.ClassDef))}
+            self.assertLessEqual(set(names.split()), defined, module)
+
+
+if __name__ == "__main__":
+    unittest.main()
