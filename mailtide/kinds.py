@@ -46,3 +46,8 @@ def is_signs(value):
 def is_numbers(value):
     """Whether the value is a list or tuple of numbers, in any order."""
     return isinstance(value, (list, tuple)) and all([is_number(number) for number in value])
+
+
+def is_ascending(numbers):
+    """Whether each of these numbers is greater than the one ahead of it."""
+    return all([one < other for one, other in zip(numbers, numbers[1:])])
