@@ -4,8 +4,15 @@ import doctest
 import unittest
 from pathlib import Path
 
+from mailtide.copies import copy_of, ends, order_for, stepped
+from mailtide.flight import finds, turned
 from mailtide.folders import Folder
+from mailtide.guarded import guarded_end, harmful, most_tries
+from mailtide.histories import played
 from mailtide.sets import count_shortest, meant, parting, plain_set, shortest
+from mailtide.since import answer, is_answer, next_numbers, spoils
+from mailtide.sure import sure_mark
+from mailtide.views import Session
 
 THERE = (5, 10, 11, 200, 1000)
 
@@ -56,6 +63,48 @@ class Examples(unittest.TestCase):
         self.assertEqual((folder.age(), folder.mark()), (7, 5))
         folder = folder.removed((2,))
         self.assertEqual((folder.gone(), folder.mark(), folder.next_number()), ([(6, 2)], 6, 3))
+
+    def test_sure_mark(self):
+        base = [(1, (), 3), (2, ("a",), 9), (4, (), 10)]
+        rows = [("letter", 1, ("a",), 12), ("letter", 1, (), 12), ("come", 5, (), 11)]
+        self.assertEqual([sure_mark(base, 10, 5, [row]) for row in rows], [10, 12, 11])
+
+    def test_session(self):
+        folder = Folder(1).appended(7, ()).appended(8, ("a",))
+        session = Session(folder)
+        session.see(folder.removed([1]).added([2], "b"))
+        self.assertEqual([session.answer(), session.tell([("gone", 1)], False), session.told()], [
+            [("gone", 1), ("letter", 1, ("a", "b"), 4), ("done", 4, 3)], 0, [(1, 1), (2, 2)]])
+
+    def test_flight(self):
+        row = [("look", 2), ("ask",), ("look", 2)]
+        self.assertEqual([finds(3, row, (1,), 1), turned(3, [("take", 1), ("ask",), ("look", 3)])], [
+            [[("here", 2)], [], [("here", 2), ("here", 3)]], [("take", 1), ("ask",), ("look", 2)]])
+
+    def test_answers(self):
+        folder = Folder(7).appended(1, ()).added((1,), "x").taken((1,), "x").appended(2, ()).added((1,), "y")
+        self.assertEqual([next_numbers(folder, 2), answer(folder, 2), answer(folder.removed((2,)), 2)], [
+            [2, 3], (2, 5, ((1, None, ("y",)), (2, 2, ())), ()), (2, 6, ((1, None, ("y",)),), (2,))])
+        self.assertEqual(answer(folder.removed((2,)).trimmed(6), 2), (2, 6, ((1, None, ("y",)),), (2,)))
+
+    def test_right_answers(self):
+        history = [("append", 1, ()), ("add", (1,), "x"), ("take", (1,), "x"), ("append", 2, ()), ("add", (1,), "y")]
+        folder, told = played(Folder(7), history), (2, 5, ((1, None, ("y",)),), ())
+        more = told[:2] + (((1, 1, ("y",)), (2, 2, ())), (8,))
+        self.assertEqual([is_answer(folder, 2, told), spoils(folder, 2, told, history), is_answer(folder, 2, more)], [
+            False, True, True])
+
+    def test_copies(self):
+        folder = Folder(1).appended(0, ("a",)).appended(1, ())
+        one, two = copy_of(folder).wanting(1, ("a", "b")), copy_of(folder).wanting(1, ("c",))
+        end = ((1, ("b", "c")), (2, ()))
+        self.assertEqual([stepped(two, folder)[2], ends([one, two], folder), order_for([one, two], folder, end)], [
+            (("add", (1,), "c"), ("take", (1,), "a")), [end], (0, 1)])
+
+    def test_guarded(self):
+        wishes = [("flip", "a"), ("flip", "b")]
+        values = [harmful(wishes[0], wishes[1]), guarded_end((), wishes, (0, 1, 0, 1, 1, 1)), most_tries((), wishes)]
+        self.assertEqual(values, [((), (0, 1, 0, 1)), (("a", "b"), (0, 1), ()), 3])
 
     def test_readme(self):
         readme = Path(__file__).resolve().parent.parent / "README.md"

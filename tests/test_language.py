@@ -2,6 +2,8 @@
 
 import ast
 import builtins
+import importlib
+import inspect
 import io
 import re
 import tokenize
@@ -55,6 +57,32 @@ INTERFACE = {
     "errors": "TideError BadSet BadFolder BadNumber BadSigns BadDeed BadNotice BadRow BadCopy BadKey BadText BadValue TooLarge",
     "sets": "meant shortest count_shortest plain_set parting",
     "folders": "Folder copied moved",
+    "histories": "played",
+    "since": "view_of view_at followed next_numbers answer answer_for is_answer spoils spoiler",
+    "views": "applied Session",
+    "sure": "sure_mark",
+    "flight": "played finds turned by_number doubt",
+    "copies": "Copy copy_of stepped run least_row end_of order_for ends",
+    "guarded": "unless wished plain_end guarded_end serial lost harmful most_tries worst_row",
+}
+
+# The parameters of the functions and classes, as the document names them.
+PARAMETERS = {
+    "sets": "meant(text, there) shortest(some, there) count_shortest(some, there) plain_set(some) parting(text, other)",
+    "folders": "Folder(age) copied(one, other, numbers) moved(one, other, numbers)",
+    "histories": "played(folder, history)",
+    "since": "view_of(folder) view_at(age, history, mark) followed(view, answer) next_numbers(folder, mark) "
+             "answer(folder, mark) answer_for(folder, mark, numbers) is_answer(folder, mark, value) "
+             "spoils(folder, mark, value, history) spoiler(folder, mark, value)",
+    "views": "applied(entries, notices) Session(folder)",
+    "sure": "sure_mark(entries, mark, upcoming, notices)",
+    "flight": "played(n, row, loose, k, fate) finds(n, row, loose, k) turned(n, wishes) "
+              "by_number(n, wishes, loose, k) doubt(n, row, loose, k)",
+    "copies": "Copy(age, mark, letters, made=()) copy_of(folder) stepped(copy, folder) run(copies, folder, row) "
+              "least_row(copies, folder) end_of(copies, folder, order) order_for(copies, folder, wanted) ends(copies, folder)",
+    "guarded": "unless(folder, numbers, mark, deed) wished(signs, wish) plain_end(signs, wishes, row) "
+               "guarded_end(signs, wishes, row) serial(signs, wishes, order) lost(signs, wishes) harmful(one, other) "
+               "most_tries(signs, wishes) worst_row(signs, wishes)",
 }
 
 
@@ -146,6 +174,45 @@ class Language(unittest.TestCase):
             tree = ast.parse((ROOT / f"{module}.py").read_text())
             defined = {node.name for node in tree.body if isinstance(node, (ast.FunctionDef, ast.ClassDef))}
             self.assertLessEqual(set(names.split()), defined, module)
+
+    def test_parameters_are_named_as_in_the_document(self):
+        for module, rows in PARAMETERS.items():
+            for name, parameters in re.findall(r"(\w+)(\([^)]*\)?\))", rows):
+                thing = getattr(importlib.import_module(f"mailtide.{module}"), name)
+                self.assertEqual(str(inspect.signature(thing)), parameters, (module, name))
+
+    def test_no_local_name_is_that_of_a_class_or_an_import(self):
+        for name, tree in trees():
+            taken = {node.name for node in tree.body if isinstance(node, ast.ClassDef)}
+            taken |= {alias.name for node in tree.body if isinstance(node, ast.ImportFrom) for alias in node.names}
+            for node in ast.walk(tree):
+                if isinstance(node, ast.arg):
+                    self.assertNotIn(node.arg, taken, name)
+                if isinstance(node, ast.Name) and isinstance(node.ctx, ast.Store):
+                    self.assertNotIn(node.id, taken, name)
+
+    def test_no_name_is_a_method_and_an_attribute(self):
+        stored = {node.attr for _, node in nodes(ast.Attribute) if isinstance(node.ctx, ast.Store)}
+        own = {part.name for _, node in nodes(ast.ClassDef) for part in node.body if isinstance(part, ast.FunctionDef)}
+        self.assertFalse(stored & own)
+
+    def test_nothing_is_imported_in_a_circle(self):
+        ahead = {name: set() for name, _ in trees()}
+        for name, node in nodes(ast.ImportFrom):
+            if node.module.startswith("mailtide."):
+                ahead[name].add(node.module.split(".")[1] + ".py")
+        while ahead:
+            free = [name for name in ahead if not ahead[name] & set(ahead)]
+            self.assertTrue(free, ahead)
+            for name in free:
+                del ahead[name]
+
+    def test_imports_are_used(self):
+        for name, tree in trees():
+            imported = {alias.name for node in tree.body if isinstance(node, ast.ImportFrom) for alias in node.names}
+            read = {node.id for node in ast.walk(tree) if isinstance(node, ast.Name) and isinstance(node.ctx, ast.Load)}
+            self.assertLessEqual(imported, read, name)
+            self.assertNotIn("_", read, name)
 
 
 if __name__ == "__main__":
