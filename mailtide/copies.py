@@ -164,12 +164,11 @@ def order_for(copies, folder, wanted):
         return None
     pairs = contest.pairs_for(wanted)
     order = ()
+    if not _can_go_on(order, len(copies), pairs):
+        return None
     while len(order) < len(copies):
         longer = [order + (at,) for at in range(len(copies)) if at not in order]
-        fitting = [row for row in longer if _can_go_on(row, len(copies), pairs)]
-        if not fitting:
-            return None
-        order = fitting[0]
+        order = [row for row in longer if _can_go_on(row, len(copies), pairs)][0]
     return order
 
 
@@ -260,14 +259,13 @@ def _is_first_last(pair, order):
 
 
 def _can_go_on(row, many, pairs):
-    """Whether an order that begins so can be ended such that the last one of each pair is on its first side."""
+    """Whether an order can begin so and end with the last one of each pair on its first side.
+
+    It is known that it can begin with the row but its last one. So where none of a pair is left, the last one of it
+    that stands in the row is right.
+    """
     rest = sum([1 << at for at in range(many) if at not in row])
-    waiting = []
-    for good, bad in pairs:
-        if bad & rest:
-            waiting.append((good, bad))
-        elif not good & rest and not _is_first_last((good, bad), row):
-            return False
+    waiting = [pair for pair in pairs if pair[1] & rest]
     # From behind: those that make nothing otherwise, or only what a later one makes good, may stand last.
     while waiting:
         blocked = 0

@@ -63,7 +63,7 @@ def _facts(entries, mark, notices):
         facts.append((change, word == "come", (since + 1, change - 1) if ahead == signs else None))
         # The notice was told when the greatest mark told until then had been given, or later.
         letters[place] = (signs, max(changes))
-    return (facts, min([letter[1] for letter in letters], default=None))
+    return (facts, min([letter[1] for letter in letters], default=0))
 
 
 def _first_impossible(facts):
@@ -96,8 +96,7 @@ class Changes:
         for change in range(1, self._last + 1):
             if change not in self._told:
                 # It is a change of a letter that is free of notices, or a letter comes behind all that are told.
-                is_free = since is not None and since < change
-                if self.can_be(change, None if is_free else change):
+                if self.can_be(change, None if since < change else change):
                     return change
         return self._last + 1
 
@@ -139,6 +138,6 @@ class Changes:
 def _have_room(waiting, free, change):
     """Whether all needs that wait find a free change of their own ahead of this one, by where they begin."""
     for many, first in enumerate(waiting[::-1], start=1):
-        if first > change or free[change - 1] - free[first - 1] < many:
+        if free[change - 1] - free[first - 1] < many:
             return False
     return True

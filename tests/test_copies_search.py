@@ -156,7 +156,7 @@ class Ends(unittest.TestCase):
             None, 5, [], (), list(end), end[:1], end[1:], end + ((3, ()),), end[::-1], (end[0],) * 2, ([1, ("x",)], end[1]),
             ((True, ("x",)), end[1]), ((1, ["x"]), end[1]), ((1, ("x", "x")), end[1]), ((1, ()), end[1]), ((1, "x"), end[1]),
             ((1, ("x", "y")), end[1]), (end[0], (2, ())), (end[0], (2, ("b", "c"))), (end[0], (2, None)), (end[0], ()),
-            ((1, ("x",), 1), end[1]), "ab", {1: 2}, (end[0], None), ((1, {"x"}), end[1]), ((1, (["x"],)), end[1]),
+            (end[0], (9, ("b",))), ((9, ("x",)), end[1]), ((1, ("x",), 1), end[1]), "ab", {1: 2}, (end[0], None), ((1, {"x"}), end[1]), ((1, (["x"],)), end[1]),
         ]
         for value in wrong:
             self.assertIsNone(order_for(copies, three(), value), value)
@@ -219,6 +219,20 @@ class Ends(unittest.TestCase):
         for now in (begin, signed):
             self.assertEqual(order_for(copies, now, every), tuple(range(11, -1, -1)))
             self.assertEqual(order_for(copies, now, none), tuple(range(12)))
+
+    def test_twelve_copies_in_a_ring(self):
+        # Each copy gives one letter the sign, and takes it from the next one: each sign has its own last copy.
+        begin, copies = Folder(1), []
+        for at in range(12):
+            begin = begin.appended(0, ())
+            rows = [(at + 1, 0, ("x",), ()), ((at + 1) % 12 + 1, 0, (), ("x",))]
+            copies.append(Copy(1, 0, sorted(rows)))
+        every = tuple((number, ("x",)) for number in range(1, 13))
+        none = tuple((number, ()) for number in range(1, 13))
+        self.assertIsNone(order_for(copies, begin, every))
+        self.assertIsNone(order_for(copies, begin, none))
+        self.assertEqual(order_for(copies, begin, every[:1] + none[1:]), tuple(range(12)))
+        self.assertEqual(order_for(copies, begin, every[:11] + none[11:]), (*range(10, -1, -1), 11))
 
 
 if __name__ == "__main__":

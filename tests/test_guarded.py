@@ -144,6 +144,13 @@ class Unless(unittest.TestCase):
         self.assertEqual(unless(gone, (2, 7), 0, ("add", "x")), (gone, (), ()))
         self.assertEqual(unless(gone, (), 9, ("add", "x")), (gone, (), ()))
 
+    def test_ascending(self):
+        folder = Folder(1)
+        for _ in range(20):
+            folder = folder.appended(0, ())
+        numbers = [16, 8, 1, 17, 9]
+        self.assertEqual(unless(folder, numbers, 9, ("add", "x"))[1:], ((16, 17), ((1, 21), (8, 22), (9, 23))))
+
     def test_own_change_moves_the_mark(self):
         folder, _, done = unless(self.folder, (2,), 2, ("add", "x"))
         self.assertEqual(unless(folder, (2,), 2, ("take", "x"))[1:], ((2,), ()))

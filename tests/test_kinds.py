@@ -26,6 +26,12 @@ class Kinds(unittest.TestCase):
         six = ("a", "b", "c", "d", "e", "f")
         self.assertEqual([kinds.is_signs(value) for value in ((), six, (*six, "g"), ("a", "a"))], [True, True, False, False])
 
+    def test_ascending(self):
+        for numbers in ((), [], (3,), [1, 2], (1, 5, 10 ** 30)):
+            self.assertTrue(kinds.is_ascending(numbers))
+        for numbers in ((1, 1), [2, 1], (1, 3, 2), [1, 2, 3, 3]):
+            self.assertFalse(kinds.is_ascending(numbers))
+
 
 if __name__ == "__main__":
     unittest.main()

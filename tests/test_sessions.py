@@ -173,6 +173,13 @@ class Telling(unittest.TestCase):
         self.assertIsNone(self.session.tell([done, done], True))
         self.assertEqual(self.session.tell([done], False), 0)
 
+    def test_done_behind_another_one(self):
+        # What was told ahead counts, too: otherwise the client could not apply all that it has heard.
+        self.session.see(three().appended(1, ()).removed((4,)))
+        self.assertIsNone(self.session.tell([("done", 5, 5)], True))
+        self.session.see(three())
+        self.assertEqual(self.session.tell([("done", 3, 4)], True), 0)
+
     def test_nothing_is_told_by_a_row_that_is_not_right(self):
         self.session.see(three().added((1,), "z").appended(0, ()).removed((2,)))
         rows = self.session.answer()

@@ -248,8 +248,22 @@ class Answers(unittest.TestCase):
             self.assertEqual(answer_for(folder, 3, numbers), (3, 5, ((3, 0, ()),), numbers))
         self.assertEqual(answer_for(folder, 2, ()), (2, 5, ((3, 0, ()),), ()))
         self.assertEqual(answer_for(folder, 2, (1, 2)), (2, 5, ((3, 0, ()),), (1, 2)))
-        for numbers in ((1,), (2,), (1, 2, 3), (3,)):
+        for numbers in ((1,), (2,), (1, 2, 3), (3,), (2, 1), [1, 1]):
             self.assertEqual(raised(answer_for, folder, 2, numbers), ("BadValue", "numbers"))
+        self.assertEqual(answer_for(folder, 1, [1]), (1, 5, ((3, 0, ()),), (1,)))
+        for numbers in ((), (2,), (1, 2)):
+            self.assertEqual(raised(answer_for, folder, 1, numbers), ("BadValue", "numbers"))
+
+    def test_spoilers_by_each_lost_letter(self):
+        folder = Folder(1).appended(0, ()).appended(0, ()).removed((1, 2)).appended(0, ()).trimmed(4)
+        for mark, gone in ((1, (1,)), (2, (1, 2)), (3, (1, 2))):
+            for number in gone:
+                value = (mark, 5, ((3, 0, ()),), tuple(other for other in gone if other != number))
+                history = spoiler(folder, mark, value)
+                self.assertTrue(spoils(folder, mark, value, history), (mark, number, history))
+                self.assertIn(number, [row[0] for row in view_at(1, history, mark)[2]])
+            for value in objects():
+                self.assertTrue(spoils(folder, mark, value, spoiler(folder, mark, value)))
 
     def test_a_lost_letter_that_must_have_gone_first(self):
         # Letter 2 took mark 4 when it came, or was changed; letter 1 was there first, and went by mark 3, or then.

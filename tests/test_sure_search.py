@@ -253,6 +253,27 @@ class Sure(unittest.TestCase):
                 row = drawn_row(chance, entries, upcoming_of(entries), most, letters)
                 self.assertEqual(found(entries, upcoming_of(entries), row), planned(entries, upcoming_of(entries), row), row)
 
+    def test_letters_and_hidden_changes_that_want_the_same_marks(self):
+        def come(number, mark):
+            return ("come", number, (), mark)
+
+        def letter(place, mark, signs=()):
+            return ("letter", place, signs, mark)
+
+        one, two = [(1, (), 3)], [(1, (), 3), (2, ("a",), 9)]
+        for entries, row, mark in (
+            (one, [come(2, 16), letter(1, 12)], 13), (one, [letter(1, 12), letter(1, 16), come(2, 18)], 13),
+            (one, [letter(1, 13), letter(1, 18), come(2, 16), come(3, 15)], 16),
+            ([], [come(2, 13), come(3, 18), letter(1, 15)], 15),
+            (two, [letter(2, 12), letter(2, 14), letter(1, 15), come(3, 20), come(4, 17)], 17),
+            (two, [letter(2, 14, ("a",)), letter(1, 15), letter(1, 22), letter(2, 18, ("a",)), come(3, 21), come(4, 19)], 19),
+            (two, [letter(2, 12, ("a",)), letter(2, 14, ("a",)), letter(1, 18), letter(2, 23, ("a",)), letter(1, 21),
+                   come(3, 20)], 15),
+            (one, [come(2, 12), come(3, 16), come(4, 15), letter(1, 14)], 16),
+        ):
+            self.assertEqual(planned(entries, upcoming_of(entries), row), mark, row)
+            self.assertEqual(found(entries, upcoming_of(entries), row), mark, row)
+
     def test_upcoming_far_above(self):
         for entries in LISTS[:2]:
             for row in list(rows_of(entries, 9, 2, MARK + 3))[::3]:
