@@ -1,4 +1,4 @@
-"""What an integer, a number, a body, a mark, a sign and signs are."""
+"""What an integer, a number, a body, a mark, a sign and signs are, and how signs stand in a line."""
 
 MOST_SIGNS = 6
 LONGEST_SIGN = 8
@@ -51,3 +51,8 @@ def is_numbers(value):
 def is_ascending(numbers):
     """Whether each of these numbers is greater than the one ahead of it."""
     return all([one < other for one, other in zip(numbers, numbers[1:])])
+
+
+def signs_text(signs):
+    """How signs stand in a line."""
+    return ",".join(signs) if signs else "-"

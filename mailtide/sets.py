@@ -15,10 +15,8 @@ STAR = 0
 def meant(text, there):
     """The ascending list of the numbers that a set text means among those that are there."""
     items = items_of(text)
-    _check_row(there)
-    if not there:
-        return []
-    return _covered(there, _merged([_span(item, there[-1]) for item in items]))
+    check_row(there)
+    return found_among(items, there)
 
 
 def shortest(some, there):
@@ -39,7 +37,7 @@ def count_shortest(some, there):
 
 def plain_set(some):
     """The first one of the shortest set texts without a star that mean just these, whatever others are there."""
-    _check_row(some)
+    check_row(some)
     if not some:
         raise BadValue("empty")
     runs = _merged([(number, number) for number in some])
@@ -72,6 +70,24 @@ def items_of(text):
     return items
 
 
+def found_among(items, there):
+    """The ascending list of the numbers that items mean among ascending ones that are there."""
+    if not there:
+        return []
+    return _covered(there, _merged([_span(item, there[-1]) for item in items]))
+
+
+def check_row(row):
+    """Raise BadRow if this is no ascending row of numbers."""
+    if not isinstance(row, (list, tuple)):
+        raise BadRow(-1)
+    ahead = 0
+    for at, number in enumerate(row):
+        if at == MOST_THERE or not is_number(number) or not ahead < number <= GREATEST:
+            raise BadRow(at)
+        ahead = number
+
+
 def _end_of(word):
     """The number that a word tells, STAR, or None for what is no end."""
     if word == "*":
@@ -84,21 +100,10 @@ def _end_of(word):
     return int(word)
 
 
-def _check_row(row):
-    """Raise BadRow if this is no ascending row of numbers."""
-    if not isinstance(row, (list, tuple)):
-        raise BadRow(-1)
-    ahead = 0
-    for at, number in enumerate(row):
-        if at == MOST_THERE or not is_number(number) or not ahead < number <= GREATEST:
-            raise BadRow(at)
-        ahead = number
-
-
 def _check_some(some, there):
     """Raise an error if these are no rows of numbers, or some are not there."""
-    _check_row(some)
-    _check_row(there)
+    check_row(some)
+    check_row(there)
     known = set(there)
     for number in some:
         if number not in known:

@@ -106,6 +106,11 @@ class Examples(unittest.TestCase):
         values = [harmful(wishes[0], wishes[1]), guarded_end((), wishes, (0, 1, 0, 1, 1, 1)), most_tries((), wishes)]
         self.assertEqual(values, [((), (0, 1, 0, 1)), (("a", "b"), (0, 1), ()), 3])
 
+    def test_as_the_document_shows_them(self):
+        failed, tried = doctest.testfile("examples.txt")
+        self.assertEqual(failed, 0)
+        self.assertGreater(tried, 50)
+
     def test_readme(self):
         readme = Path(__file__).resolve().parent.parent / "README.md"
         failed, tried = doctest.testfile(str(readme), module_relative=False)

@@ -64,6 +64,10 @@ INTERFACE = {
     "flight": "played finds turned by_number doubt",
     "copies": "Copy copy_of stepped run least_row end_of order_for ends",
     "guarded": "unless wished plain_end guarded_end serial lost harmful most_tries worst_row",
+    "breaks": "contents behind good again answer plan least_questions doubt",
+    "costs": "worst_case least_probes least_rounds best_paper curve asked_rounds way_lines way_cost cheapest",
+    "alike": "between surely ways most_at_once fewest_at_once",
+    "search": "sought Kept plain_key parted folder_of is_opposite is_within",
 }
 
 # The parameters of the functions and classes, as the document names them.
@@ -83,6 +87,15 @@ PARAMETERS = {
     "guarded": "unless(folder, numbers, mark, deed) wished(signs, wish) plain_end(signs, wishes, row) "
                "guarded_end(signs, wishes, row) serial(signs, wishes, order) lost(signs, wishes) harmful(one, other) "
                "most_tries(signs, wishes) worst_row(signs, wishes)",
+    "breaks": "contents(folder) behind(folder, row, p) good(folder, row, acts=()) again(folder, command, acts=()) "
+              "answer(folder, question) plan(folder, row, questions, acts=()) "
+              "least_questions(folder, row, offers, acts=()) doubt(folder, row, questions, acts=())",
+    "costs": "worst_case(paper, many, there) least_probes(many, there, *, rounds=None) least_rounds(many, there) "
+             "best_paper(many, there) curve(many, there) asked_rounds(paper, pattern) "
+             "way_lines(way, folder, known, mark) way_cost(way, folder, known, mark) cheapest(folder, known, mark)",
+    "alike": "between(one, other) surely(one, other) ways(one, other, s) most_at_once(one, other) fewest_at_once(one, other)",
+    "search": "sought(key, folder) Kept(key, folder) plain_key(key) parted(key, other) folder_of(letters) "
+              "is_opposite(key, other) is_within(key, other)",
 }
 
 
