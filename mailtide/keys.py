@@ -2,9 +2,8 @@
 
 from itertools import combinations
 
-from mailtide.errors import BadSet
 from mailtide.kinds import is_mark, is_sign
-from mailtide.sets import STAR, found_among, items_of
+from mailtide.sets import STAR, found_among, is_set_text, items_of
 
 MOST_BESIDE = 10
 MOST_KEYS = 60
@@ -164,7 +163,7 @@ def _is_atom(word, told):
         return is_sign(told)
     if word == "since":
         return is_mark(told)
-    return word == "number" and _is_set_text(told)
+    return word == "number" and is_set_text(told)
 
 
 def _parts(value):
@@ -176,12 +175,3 @@ def _parts(value):
     if value[0] in ("and", "or") and isinstance(value[1], tuple) and len(value[1]) <= MOST_BESIDE:
         return value[1]
     return None
-
-
-def _is_set_text(value):
-    """Whether the value is a set text."""
-    try:
-        items_of(value)
-    except BadSet:
-        return False
-    return True

@@ -59,15 +59,21 @@ def parting(text, other):
 
 def items_of(text):
     """The items of a set text, each as its two ends; an item of one end has it twice."""
-    if not isinstance(text, str):
+    if not is_set_text(text):
         raise BadSet(text)
-    items = []
-    for item in text.split(","):
+    items = [[_end_of(word) for word in item.split(":")] for item in text.split(",")]
+    return [(ends[0], ends[-1]) for ends in items]
+
+
+def is_set_text(value):
+    """Whether the value is a set text."""
+    if not isinstance(value, str):
+        return False
+    for item in value.split(","):
         ends = [_end_of(word) for word in item.split(":")]
         if len(ends) > 2 or None in ends:
-            raise BadSet(text)
-        items.append((ends[0], ends[-1]))
-    return items
+            return False
+    return True
 
 
 def found_among(items, there):

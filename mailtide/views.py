@@ -79,11 +79,7 @@ class Session:
         if not isinstance(folder, Folder):
             raise BadFolder(folder)
         self._folder = folder
-        # The list that the client has by what it was told.
-        self._rows = [_entry_of(letter) for letter in folder.letters()]
-        # The greatest number, and the greatest mark of a done, that were ever told.
-        self._top = max([row[0] for row in self._rows], default=0)
-        self._floor = 0
+        self._told = opened(folder)
 
     def see(self, folder):
         """Take the folder as it is now."""
@@ -93,7 +89,7 @@ class Session:
 
     def told(self):
         """The list of (number, mark) of the letters that it has told."""
-        return [(number, mark) for number, _, mark in self._rows]
+        return [(number, mark) for number, _, mark in self._told[0]]
 
     def tell(self, notices, is_ask):
         """Take notices as told, if all are right; otherwise return the index of the first one that is not."""
@@ -101,56 +97,79 @@ class Session:
             raise BadNotice(-1)
         if not isinstance(is_ask, bool):
             raise BadValue("is_ask")
-        rows, top, floor = self._rows, self._top, self._floor
+        told = self._told
         for at, notice in enumerate(notices):
-            if not fits(rows, floor, notice) or not self._is_so(rows, top, notice, is_ask):
+            told = behind_right(told, self._folder, notice, is_ask)
+            if told is None:
                 return at
-            if notice[0] == "come":
-                top = notice[1]
-            elif notice[0] == "done":
-                floor = notice[1]
-            rows = behind(rows, notice)
-        self._rows, self._top, self._floor = rows, top, floor
+        self._told = told
         return None
 
     def answer(self):
         """The notices that an ask must at least tell."""
-        letters = {letter[0]: _entry_of(letter) for letter in self._folder.letters()}
-        notices = []
-        for at, row in enumerate(self._rows):
-            if row[0] not in letters:
-                # Those ahead of it that were gone have left the list by then.
-                notices.append(("gone", at + 1 - len(notices)))
-        kept = [row for row in self._rows if row[0] in letters]
-        for at, row in enumerate(kept):
-            number, signs, mark = letters[row[0]]
-            if mark > row[2]:
-                notices.append(("letter", at + 1, signs, mark))
-        for number in sorted(letters):
-            if number > self._top:
-                notices.append(("come",) + letters[number])
-        notices.append(("done", self._folder.mark(), self._folder.next_number()))
-        return notices
-
-    def _is_so(self, rows, top, notice, is_ask):
-        """Whether a notice that fits tells what is so of the folder, and may be told now."""
-        letters = [_entry_of(letter) for letter in self._folder.letters()]
-        word = notice[0]
-        if word == "come":
-            new = [letter for letter in letters if letter[0] > top]
-            return new[:1] == [notice[1:]]
-        if word == "letter":
-            return (rows[notice[1] - 1][0], notice[2], notice[3]) in letters
-        if word == "gone":
-            return is_ask and rows[notice[1] - 1][0] not in [letter[0] for letter in letters]
-        is_all = [(row[0], row[2]) for row in rows] == [(letter[0], letter[2]) for letter in letters]
-        return is_ask and is_all and notice[1:] == (self._folder.mark(), self._folder.next_number())
+        return answer_to_ask(self._told, self._folder)
 
 
-def _entry_of(letter):
-    """The entry that a list has for a letter."""
-    number, _, signs, mark = letter
-    return (number, signs, mark)
+def opened(folder):
+    """What a session that opens a folder has told: (its list, the greatest number ever, the last mark of a done)."""
+    rows = entries_of(folder)
+    return (rows, max([row[0] for row in rows], default=0), 0)
+
+
+def behind_right(told, folder, notice, is_ask):
+    """What a session has told behind a notice, or None if this is not right now."""
+    rows, top, floor = told
+    if not fits(rows, floor, notice) or not _is_so(rows, top, folder, notice, is_ask):
+        return None
+    if notice[0] == "come":
+        top = notice[1]
+    elif notice[0] == "done":
+        floor = notice[1]
+    return (behind(rows, notice), top, floor)
+
+
+def answer_to_ask(told, folder):
+    """The notices that an ask must at least tell."""
+    rows, top, floor = told
+    letters = {entry[0]: True for entry in entries_of(folder)}
+    # Those ahead of it that were gone have left the list by then.
+    gone = [at for at, row in enumerate(rows) if row[0] not in letters]
+    notices = [("gone", at + 1 - many) for many, at in enumerate(gone)]
+    kept = [row for row in rows if row[0] in letters]
+    notices.extend(news((kept, top, floor), folder))
+    return notices + [("done", folder.mark(), folder.next_number())]
+
+
+def news(told, folder):
+    """The notices of the letters that were changed, by their places, then of those that came."""
+    rows, top, _ = told
+    entries = entries_of(folder)
+    letters = {entry[0]: entry for entry in entries}
+    notices = []
+    for at, (number, _, mark) in enumerate(rows):
+        if number in letters and letters[number][2] > mark:
+            notices.append(("letter", at + 1) + letters[number][1:])
+    return notices + [("come",) + entry for entry in entries if entry[0] > top]
+
+
+def entries_of(folder):
+    """The list of a client that has been told all letters of a folder."""
+    return [(number, signs, mark) for number, _, signs, mark in folder.letters()]
+
+
+def _is_so(rows, top, folder, notice, is_ask):
+    """Whether a notice that fits tells what is so of a folder, and may be told now."""
+    entries = entries_of(folder)
+    word = notice[0]
+    if word == "come":
+        new = [entry for entry in entries if entry[0] > top]
+        return new[:1] == [notice[1:]]
+    if word == "letter":
+        return (rows[notice[1] - 1][0], notice[2], notice[3]) in entries
+    if word == "gone":
+        return is_ask and rows[notice[1] - 1][0] not in [entry[0] for entry in entries]
+    is_all = [(row[0], row[2]) for row in rows] == [(entry[0], entry[2]) for entry in entries]
+    return is_ask and is_all and notice[1:] == (folder.mark(), folder.next_number())
 
 
 def _is_entry(value):

@@ -68,6 +68,10 @@ INTERFACE = {
     "costs": "worst_case least_probes least_rounds best_paper curve asked_rounds way_lines way_cost cheapest",
     "alike": "between surely ways most_at_once fewest_at_once",
     "search": "sought Kept plain_key parted folder_of is_opposite is_within",
+    "lines": "line_of thing_of heard",
+    "judge": "placings first_placing wrong_line sure_marks transcript",
+    "world": "World",
+    "pictures": "picture",
 }
 
 # The parameters of the functions and classes, as the document names them.
@@ -96,6 +100,23 @@ PARAMETERS = {
     "alike": "between(one, other) surely(one, other) ways(one, other, s) most_at_once(one, other) fewest_at_once(one, other)",
     "search": "sought(key, folder) Kept(key, folder) plain_key(key) parted(key, other) folder_of(letters) "
               "is_opposite(key, other) is_within(key, other)",
+    "lines": "line_of(thing) thing_of(line) heard(entries, lines)",
+    "judge": "placings(folder, lines, deeds) first_placing(folder, lines, deeds) wrong_line(folder, lines, deeds) "
+             "sure_marks(folder, lines) transcript(folder, moves)",
+    "world": "World(names, clients)",
+    "pictures": "picture(world)",
+}
+
+# The methods of the classes, as the document names them; each is defined in the class itself.
+METHODS_OF = {
+    "folders.Folder": "age() letters() next_number() mark() gone() cut() appended(body, signs) added(numbers, sign) "
+                      "taken(numbers, sign) set_to(numbers, signs) removed(numbers) trimmed(mark)",
+    "views.Session": "see(folder) told() answer() tell(notices, is_ask)",
+    "copies.Copy": "age() mark() letters() made() wanting(number, signs) dropping(number) making(body, signs)",
+    "search.Kept": "numbers() follow(folder)",
+    "world.World": "folder(name) copy(client, name) act(name, deed) remake(name) swap(name, other) fetch(client, name) "
+                   "want(client, name, number, signs) drop(client, name, number) make(client, name, body, signs) "
+                   "breaks(client, name, p) step(client, name) least_steps() settle() doubled(client, name, p) safe_trim(name)",
 }
 
 
@@ -193,6 +214,14 @@ class Language(unittest.TestCase):
             for name, parameters in re.findall(r"(\w+)(\([^)]*\)?\))", rows):
                 thing = getattr(importlib.import_module(f"mailtide.{module}"), name)
                 self.assertEqual(str(inspect.signature(thing)), parameters, (module, name))
+
+    def test_methods_are_defined_in_their_classes(self):
+        for place, rows in METHODS_OF.items():
+            module, name = place.split(".")
+            own = vars(getattr(importlib.import_module(f"mailtide.{module}"), name))
+            for method, parameters in re.findall(r"(\w+)\(([^)]*)\)", rows):
+                expected = ", ".join(["self", parameters] if parameters else ["self"])
+                self.assertEqual(str(inspect.signature(own[method])), f"({expected})", (place, method))
 
     def test_no_local_name_is_that_of_a_class_or_an_import(self):
         for name, tree in trees():
