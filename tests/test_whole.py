@@ -108,18 +108,20 @@ def method_samples():
     }
 
 
-def told(value):
-    """What a value tells that a call might have changed, as plain values."""
+def told(value, depth=12):
+    """What a value tells that a call might have changed, as plain values; some values have themselves in them."""
+    if depth == 0:
+        return id(value)
     if isinstance(value, Folder):
         return ("folder", state(value))
     if isinstance(value, Copy):
         return ("copy", value.age(), value.mark(), value.letters(), value.made())
     if isinstance(value, (Session, Kept, World)):
-        return (type(value).__name__, {name: told(worth) for name, worth in vars(value).items()})
+        return (type(value).__name__, {name: told(worth, depth - 1) for name, worth in vars(value).items()})
     if isinstance(value, (list, tuple)):
-        return [type(value).__name__, *map(told, value)]
+        return [type(value).__name__, *[told(item, depth - 1) for item in value]]
     if isinstance(value, dict):
-        return [(told(key), told(worth)) for key, worth in value.items()]
+        return [(told(key, depth - 1), told(worth, depth - 1)) for key, worth in value.items()]
     return value if isinstance(value, (int, str, type(None))) else id(value)
 
 
@@ -202,19 +204,28 @@ class Whole(unittest.TestCase):
                 self.assertEqual(behind, alone, (name, at, value))
 
     def test_wrong_objects_within(self):
-        # Lists and tuples with a wrong object in the place of each item.
+        # Lists and tuples with a wrong object in each place in them, however deep.
+        many = 0
         for name, call, arguments in calls():
             for at, argument in enumerate(arguments()):
-                if not isinstance(argument, (list, tuple)):
-                    continue
-                for place, turn in itertools.product(range(len(argument)), range(len(objects()))):
-                    rows = list(arguments())
-                    rows[at] = type(argument)([*argument[:place], objects()[turn], *argument[place + 1:]])
-                    function = call()
-                    holder = getattr(function, "__self__", None)
-                    ahead = told(rows), told(holder)
-                    if outcome(function, rows) is not None or holder is None:
-                        self.assertEqual((told(rows), told(holder)), ahead, (name, at, place, turn))
+                for turn in range(len(objects())):
+                    for spoilt in self.with_one(argument, lambda turn=turn: objects()[turn]):
+                        rows = list(arguments())
+                        rows[at] = spoilt
+                        function = call()
+                        holder = getattr(function, "__self__", None)
+                        ahead = told(rows), told(holder)
+                        if outcome(function, rows) is not None or holder is None:
+                            self.assertEqual((told(rows), told(holder)), ahead, (name, at, turn))
+                        many += 1
+        self.assertGreater(many, 10000)
+
+    def with_one(self, value, other):
+        """All lists or tuples that have another object in one place."""
+        if isinstance(value, (list, tuple)):
+            for at, item in enumerate(value):
+                for spoilt in [other(), *self.with_one(item, other)]:
+                    yield type(value)([*value[:at], spoilt, *value[at + 1:]])
 
     def test_what_is_told_may_be_changed(self):
         for name, call, arguments in calls():

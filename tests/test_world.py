@@ -582,7 +582,8 @@ class Pictures(unittest.TestCase):
 
     def test_wrong(self):
         for value in objects():
-            self.assertEqual(raised(picture, value), ("BadValue", "world"))
+            if not isinstance(value, World):
+                self.assertEqual(raised(picture, value), ("BadValue", "world"))
 
 
 if __name__ == "__main__":

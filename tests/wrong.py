@@ -1,7 +1,11 @@
 """Objects of many kinds that a caller may pass where they do not belong."""
 
+from mailtide.copies import Copy
 from mailtide.errors import BadSet
 from mailtide.folders import Folder
+from mailtide.search import Kept
+from mailtide.views import Session
+from mailtide.world import World
 
 
 def plain_function():
@@ -10,12 +14,16 @@ def plain_function():
 
 def objects():
     """New objects of the built-in types and of classes of the interface, also such as cannot be hashed."""
+    knot = []
+    knot.append(knot)
     return [
         None, True, False, 0, 1, -1, 7, 10 ** 40, 1 + 2j, "", "*", "5", "a", "A", "abc", b"", b"a", bytearray(b"a"),
         memoryview(b"a"), [], [1], [[]], ["a"], (), (1,), ("a",), ((),), ([],), {}, {1: 2}, set(), {1}, {"a"},
         frozenset((1,)), range(3), slice(1), iter([1]), zip([1]), map(abs, [1]), enumerate([1]), object(), Ellipsis,
         NotImplemented, int, list, type, Folder, Folder(1), ValueError("x"), BadSet("x"), BadSet, plain_function,
         lambda: 1, (k for k in (1, 2)), {}.items(), {}.keys(), [].append, len, property(), staticmethod(len),
+        Copy(1, 0, ()), Session(Folder(1)), Kept(("all",), Folder(1)), World(["a"], 1), World, Copy, knot, (knot,), {1: knot},
+        type("Below", (str,), {}), range(10 ** 20), super(list, knot), classmethod(len), Exception(), complex(0, 1), __import__("sys"),
     ]
 
 
