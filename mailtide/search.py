@@ -93,7 +93,7 @@ def _sought(key, folder):
 
 def _without(numbers, others):
     """The tuple of those numbers that are none of the others."""
-    known = set(others)
+    known = {number: True for number in others}
     return tuple([number for number in numbers if number not in known])
 
 
